@@ -1,0 +1,1 @@
+"""Nearercamps: programs whose hands move nearer, by shares nobody knows."""
