@@ -28,19 +28,16 @@ def all_lots(n):
 
 def seen_from(looks, lot):
     """Return the lot of all places at which some place of lot looks."""
-    looks, lot = frozen(looks), frozen(lot)
     return ascending([seen for place in lot for seen in looks[place]])
 
 
 def lookers_at(looks, lot):
     """Return the lot of all places that look at some place of lot."""
-    looks, lot = frozen(looks), frozen(lot)
     return tuple([place for place, seen in enumerate(looks) if any([one in lot for one in seen])])
 
 
 def lookers_within(looks, lot):
     """Return the lot of all places that look at places of lot alone."""
-    looks, lot = frozen(looks), frozen(lot)
     return tuple([place for place, seen in enumerate(looks) if all([one in lot for one in seen])])
 
 
@@ -51,13 +48,13 @@ def stand_still(n):
 
 def behind_looks(looks, others):
     """Return the LOOKS of a move by looks and then one by others."""
-    return tuple([seen_from(looks, lot) for lot in frozen(others)])
+    return tuple([seen_from(looks, lot) for lot in others])
 
 
 def many_looks(looks, many):
     """Return the LOOKS of many moves by looks."""
-    power = frozen(looks)
-    done = stand_still(len(power))
+    power = looks
+    done = stand_still(len(looks))
     while many > 0:
         if many % 2 == 1:
             done = behind_looks(done, power)
@@ -68,7 +65,7 @@ def many_looks(looks, many):
 
 def is_wider(looks, others):
     """Return whether each place looks, by looks, at all places that it looks at by others."""
-    for lot, narrow in zip(frozen(looks), frozen(others)):
+    for lot, narrow in zip(looks, others):
         if not all([place in lot for place in narrow]):
             return False
     return True
@@ -92,7 +89,6 @@ def reached_from(looks, place):
 
 def least_closed(looks):
     """Return the ascending list of the least closed LOTS."""
-    looks = frozen(looks)
     reaches = [reached_from(looks, place) for place in range(len(looks))]
     return sorted(set([reach for reach in reaches if all([reaches[place] == reach for place in reach])]))
 
@@ -115,8 +111,7 @@ def way_lengths(looks, place):
 
 def period_of(looks, lot):
     """Return the greatest number that divides the lengths of all rings of a least closed LOT."""
-    looks, lot = frozen(looks), frozen(lot)
-    if lot not in least_closed(looks):
+    if frozen(lot) not in least_closed(looks):
         raise Unfit()
     lengths = way_lengths(looks, lot[0])
     period = 0

@@ -75,7 +75,7 @@ def mixed(looks, shares, state):
 def moved(step, state):
     """Return the STATE behind a move by the told shares."""
     looks, shares = told(step)
-    return mixed(looks, shares, frozen(state))
+    return mixed(looks, shares, state)
 
 
 def moved_by(step, shares, state):
@@ -84,13 +84,12 @@ def moved_by(step, shares, state):
     rows = frozen(shares)
     if not are_rows(rows, looks) or (own is not None and own != rows):
         raise Unfit()
-    return mixed(looks, rows, frozen(state))
+    return mixed(looks, rows, state)
 
 
 def spread_of(state):
     """Return the greatest number of state less its least one."""
-    numbers = frozen(state)
-    return minus(numbers[greatest_at(numbers)], numbers[least_at(numbers)])
+    return minus(state[greatest_at(state)], state[least_at(state)])
 
 
 def least_told(shares):
@@ -123,7 +122,6 @@ def free_range(numbers, d):
 
 def move_ranges(step, state, d):
     """Return the list of pairs (least, greatest) of what each place can come to by a move that keeps to d."""
-    step, state, d = frozen(step), frozen(state), frozen(d)
     looks, shares = step
     if not can_keep(step, d):
         raise Unfit()
@@ -134,10 +132,9 @@ def move_ranges(step, state, d):
 
 def is_mean(step, state, other, d):
     """Return whether some move of step that keeps to d leads state to other."""
-    step, d = frozen(step), frozen(d)
     if not can_keep(step, d):
         return False
-    for number, (least, greatest) in zip(frozen(other), move_ranges(step, state, d)):
+    for number, (least, greatest) in zip(other, move_ranges(step, state, d)):
         if is_less(number, least) or is_less(greatest, number):
             return False
     return True
@@ -160,13 +157,12 @@ def free_row(numbers, mean, d):
 
 def shares_for(step, state, other, d):
     """Return rows by which a move of step that keeps to d leads state to other."""
-    step, state, other, d = frozen(step), frozen(state), frozen(other), frozen(d)
-    looks, shares = step
+    looks, shares = frozen(step)
     if not is_mean(step, state, other, d):
         raise CanNot()
     if shares is not None:
         return shares
-    return tuple([free_row(seen_numbers(lot, state), mean, d) for lot, mean in zip(looks, other)])
+    return tuple([free_row(seen_numbers(lot, state), mean, frozen(d)) for lot, mean in zip(looks, other)])
 
 
 def table_row(lot, row, n):

@@ -10,7 +10,25 @@ moved(step, state), moved_by(step, shares, state), spread_of(state), move_ranges
 is_mean(step, state, other, d), shares_for(step, state, other, d), table_of(step), step_of(table), row_step(steps),
 least_share(step)"""
 
-FILES = {"looks": LOOKS, "steps": STEPS}
+MACHINES = """is_machine(thing, n), places_of(machine), one_round(steps), one_choice(owner, steps), choices(machine, owner),
+is_row(machine, stand, thing), row_end(machine, stand, row), rows_of(machine, stand, many), rounds(machine),
+round_lengths(machine), go_alike(machine, other), merged(machine), renamed(machine, order),
+one_after_other(machine, other), within_rounds(machine, wants)"""
+
+CAMPS = """is_camps(thing, n), all_camps(n), in_camps(lot, one), are_within(camps, other), greatest_camps(some),
+led(looks, camps), led_along(machine, stand, row, camps), life_along(machine, stand, row, camps),
+left_alive(machine, stand, row), kills_all(machine, stand, row), hangs_on(machine, stand, row, place),
+common_places(machine, stand, row), lasting(looks), longest_alone(looks), renamed_camps(camps, order)"""
+
+GAMES = """kill_rank(machine, stand, camps), can_kill(machine, stand, camps), kill_ranks(machine),
+are_kill_ranks(machine, thing), keeping_table(machine), is_keeping_table(machine, thing),
+best_arrows(machine, stand, camps), game_row(machine, stand, camps, many)"""
+
+TOGETHER = """surely_together(machine), our_paper(machine), is_our_paper(machine, thing), their_paper(machine),
+is_their_paper(machine, thing), camp_ring(machine), is_camp_ring(machine, thing), rule_arrow(machine, paper, row),
+rule_span(machine, paper)"""
+
+FILES = {"looks": LOOKS, "steps": STEPS, "machines": MACHINES, "camps": CAMPS, "games": GAMES, "together": TOGETHER}
 
 
 def functions_of(name):

@@ -5,8 +5,8 @@ import unittest
 
 from tests.support import read_examples, run_example
 
-MODULES = ("errors", "looks", "steps")
-SECTIONS = ("section_04.txt", "section_05.txt")
+MODULES = ("errors", "looks", "steps", "machines", "camps", "games", "together")
+SECTIONS = ("section_04.txt", "section_05.txt", "section_07.txt", "section_08.txt", "section_09.txt", "section_10.txt")
 
 
 def all_names():
@@ -29,7 +29,7 @@ class Examples(unittest.TestCase):
 
     def test_no_example_is_left_out(self):
         counts = [len(read_examples(section)) for section in SECTIONS]
-        self.assertEqual(counts, [7, 10])
+        self.assertEqual(counts, [7, 10, 10, 10, 9, 9])
 
 
 if __name__ == "__main__":
