@@ -43,7 +43,8 @@ class Hunt:
         if self.hunted is None:
             return 0
         arrows = self.stands[self.stand][1]
-        return [k for k, (step, end) in enumerate(arrows) if self.is_good(step, end)][0]
+        good = [k for k, (step, end) in enumerate(arrows) if self.is_good(step, end)]
+        return good[0]
 
     def take(self, arrow):
         """Go on by this arrow. Raises Unfit() if there is none, or the rule takes another one."""

@@ -60,14 +60,15 @@ def refuse_choices_of_ours(machine):
         raise Unfit()
 
 
-def kept_arrow(machine, ranks, stand, camps):
-    """Return the first arrow of stand that leads camps to a spot without a rank, and that spot."""
+def kept_arrows(machine, ranks, stand, camps):
+    """Return the list of the arrows of stand that lead camps to spots without a rank, each with that spot."""
     steps, stands = machine
+    kept = []
     for k, (step, end) in enumerate(stands[stand][1]):
         going = led_by(steps[step][0], camps)
         if going is not None and ranks[(end, going)] is None:
-            return k, (end, going)
-    return None
+            kept.append((k, (end, going)))
+    return kept
 
 
 def kept_round(machine, ranks, camps):
@@ -75,7 +76,7 @@ def kept_round(machine, ranks, camps):
     row = []
     stand = 0
     while row == [] or stand != 0:
-        arrow, (stand, camps) = kept_arrow(machine, ranks, stand, camps)
+        arrow, (stand, camps) = kept_arrows(machine, ranks, stand, camps)[0]
         row.append(arrow)
     return row, camps
 

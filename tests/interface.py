@@ -10,9 +10,9 @@ moved(step, state), moved_by(step, shares, state), spread_of(state), move_ranges
 is_mean(step, state, other, d), shares_for(step, state, other, d), table_of(step), step_of(table), row_step(steps),
 least_share(step)"""
 
-MACHINES = """is_machine(thing, n), places_of(machine), one_round(steps), one_choice(owner, steps), choices(machine, owner),
-is_row(machine, stand, thing), row_end(machine, stand, row), rows_of(machine, stand, many), rounds(machine),
-round_lengths(machine), go_alike(machine, other), merged(machine), renamed(machine, order),
+MACHINES = """is_machine(thing, n), places_of(machine), one_round(steps), one_choice(owner, steps),
+choices(machine, owner), is_row(machine, stand, thing), row_end(machine, stand, row), rows_of(machine, stand, many),
+rounds(machine), round_lengths(machine), go_alike(machine, other), merged(machine), renamed(machine, order),
 one_after_other(machine, other), within_rounds(machine, wants)"""
 
 CAMPS = """is_camps(thing, n), all_camps(n), in_camps(lot, one), are_within(camps, other), greatest_camps(some),

@@ -44,7 +44,9 @@ def row_for(thing, count):
 
 
 def rows_for(thing, own):
-    return type(thing) is tuple and len(thing) == len(own) and all(row_for(thing[k], len(own[k])) for k in range(len(own)))
+    if type(thing) is not tuple or len(thing) != len(own):
+        return False
+    return all(row_for(thing[k], len(own[k])) for k in range(len(own)))
 
 
 def step(thing, n):

@@ -28,7 +28,8 @@ def plain_greatest(some):
 
 class Kinds(unittest.TestCase):
     def test_is_camps(self):
-        for right, n in ((SPLIT, 3), (((0,), (1,)), 2), (((0, 3), (1, 2)), 4), (((1,), (2,)), 10 ** 20), (((1,), (0, 2))[::-1], 3)):
+        rights = [(SPLIT, 3), (((0,), (1,)), 2), (((0, 3), (1, 2)), 4), (((1,), (2,)), 10 ** 20), (((0, 2), (1,)), 3)]
+        for right, n in rights:
             check_kind(self, lambda thing: is_camps(thing, n), lambda thing: plain.camps(thing, n), right)
         for thing in (((1,), (0,)), ((0, 1), (1,)), ((0,), (0,)), ((0, 2), (1, 2)), ((), (0,)), ((0,), ()), ((0,), [1]),
                       ((0,), (1,), (2,)), ((0,),), ((False,), (1,)), ((0,), (True,)), ((1, 0), (2,)), ((0,), (3,))):
@@ -193,7 +194,8 @@ class Lasting(unittest.TestCase):
                     met.append(plain.led(looks, met[-1]))
                 lives[camps] = None if met[-1] is not None else len(met) - 2
             self.assertEqual(lasting(looks), tuple(camps for camps in every if lives[camps] is None))
-            self.assertEqual(longest_alone(looks), max([life for life in lives.values() if life is not None], default=0))
+            others = [life for life in lives.values() if life is not None]
+            self.assertEqual(longest_alone(looks), max(others, default=0))
 
     def test_none_lasts_exactly_if_all_come_together_alone(self):
         for looks in drawn_looks(9, 150):

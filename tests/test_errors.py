@@ -17,7 +17,8 @@ class Errors(unittest.TestCase):
             self.assertEqual(kind.__bases__, (base,))
 
     def test_each_stands_in_errors(self):
-        own = [value for value in vars(errors).values() if inspect.isclass(value) and value.__module__ == errors.__name__]
+        classes = [value for value in vars(errors).values() if inspect.isclass(value)]
+        own = [kind for kind in classes if kind.__module__ == errors.__name__]
         self.assertEqual(sorted(kind.__name__ for kind in own), sorted(kind.__name__ for kind in BASES))
 
     def test_each_keeps_the_values_of_its_constructor(self):

@@ -5,8 +5,8 @@ import unittest
 
 from nearercamps.camps import all_camps, are_within
 from nearercamps.errors import CanNot, NoPlace
-from nearercamps.games import are_kill_ranks, best_arrows, can_kill, game_row, is_keeping_table, keeping_table, kill_rank
-from nearercamps.games import kill_ranks
+from nearercamps.games import are_kill_ranks, best_arrows, can_kill, game_row, is_keeping_table, keeping_table
+from nearercamps.games import kill_rank, kill_ranks
 from nearercamps.machines import one_choice, places_of
 from tests import plain_machines as plain
 from tests.calls import check_call
@@ -60,7 +60,8 @@ class Ranks(unittest.TestCase):
         for own in drawn_machines(2, 60, 4):
             ranked = [triple[:2] for triple in kill_ranks(own)]
             kept = list(plain_keeping(own))
-            self.assertEqual(sorted(ranked + kept), [(k, c) for k in range(len(own[1])) for c in all_camps(places_of(own))])
+            spots = [(k, camps) for k in range(len(own[1])) for camps in all_camps(places_of(own))]
+            self.assertEqual(sorted(ranked + kept), spots)
             self.assertIs(are_kill_ranks(own, kill_ranks(own)), True)
             if kept:
                 self.assertIs(is_keeping_table(own, keeping_table(own)), True)
@@ -101,7 +102,8 @@ class AreKillRanks(unittest.TestCase):
         for own in (TAME, DUO, WILD):
             game = plain.Game(own)
             check_kind(self, lambda thing: are_kill_ranks(own, thing), game.are_kill_ranks, kill_ranks(own))
-        for own, right in ((WILD, ()), (TAME, ((0, SPLIT, 1), (0, ((0, 2), (1,)), 2))), (TAME, ((0, SPLIT, 10 ** 40),))):
+        both = ((0, SPLIT, 1), (0, ((0, 2), (1,)), 2))
+        for own, right in ((WILD, ()), (TAME, both), (TAME, ((0, SPLIT, 10 ** 40),))):
             check_kind(self, lambda thing: are_kill_ranks(own, thing), plain.Game(own).are_kill_ranks, right)
 
     def test_parts_and_greater_ranks(self):

@@ -11,7 +11,8 @@ from nearercamps.together import surely_together
 from tests import plain_machines as plain
 from tests import plain_steps
 from tests.calls import check_call
-from tests.drawn import DUO, FIRST, LONE, NAMED, SECOND, SIX_TURN, TAME, TOLD, TURN, TWO, WILD, drawn_machines, drawn_row
+from tests.drawn import DUO, FIRST, LONE, NAMED, SECOND, SIX_TURN, TAME, TOLD, TURN, TWO, WILD
+from tests.drawn import drawn_machines, drawn_row
 from tests.support import as_lists, check_kind
 
 WIDE = ((SECOND, FIRST, SECOND), (("any", ((1, 1), (1, 2))), ("ours", ((0, 0),)), ("any", ((2, 0),))))
@@ -48,7 +49,8 @@ class Kinds(unittest.TestCase):
 
     def test_rings_that_leave_out_the_beginning(self):
         step = FIRST
-        wrong = [(("any", ((0, 1),)), ("any", ((0, 1),))), (("any", ((0, 1),)), ("any", ((0, 2),)), ("any", ((0, 1), (0, 0)))),
+        wrong = [(("any", ((0, 1),)), ("any", ((0, 1),))),
+                 (("any", ((0, 1),)), ("any", ((0, 2),)), ("any", ((0, 1), (0, 0)))),
                  (("any", ((0, 0), (0, 1))), ("any", ((0, 0), (0, 1)))), (("any", ((0, 0),)), ("any", ((0, 0),))),
                  (("any", ((0, 0),)), ("any", ((0, 2),)), ("any", ((0, 1),)))]
         for stands in wrong:
@@ -266,8 +268,9 @@ class Alike(unittest.TestCase):
             order += [end for end in dict.fromkeys(end for _, end in told) if end not in order]
             steps += [step for step in dict.fromkeys(step for step, _ in told) if step not in steps]
             stands.append((owner if len(told) > 1 else "any", told))
-        expected = tuple((owner, tuple((steps.index(step), order.index(end)) for step, end in told)) for owner, told in stands)
-        self.assertEqual(small, (tuple(steps), expected))
+        numbered = [tuple((steps.index(step), order.index(end)) for step, end in told) for _, told in stands]
+        owners = [owner for owner, _ in stands]
+        self.assertEqual(small, (tuple(steps), tuple(zip(owners, numbered))))
 
     def test_merged_leaves_out_steps_that_no_arrow_has(self):
         own = ((SECOND, FIRST, FIRST), (("ours", ((2, 0), (1, 0))),))
@@ -312,8 +315,9 @@ class Within(unittest.TestCase):
         order = [begin]
         for spot in order:
             order += [to for to in dict.fromkeys(to for _, _, to in sorted(going[spot])) if to not in order]
-        stands = [(own[1][spot[0]][0], tuple((step, order.index(to)) for _, step, to in sorted(going[spot]))) for spot in order]
-        return own[0], tuple(stands)
+        owners = [own[1][stand][0] for stand, _ in order]
+        arrows = [tuple((step, order.index(to)) for _, step, to in sorted(going[spot])) for spot in order]
+        return own[0], tuple(zip(owners, arrows))
 
     def test_against_the_rounds_that_are_left(self):
         rng = random.Random(10)
@@ -364,7 +368,8 @@ class Within(unittest.TestCase):
             within_rounds(WILD, ((0, 1), (1, 1)))
 
     def test_places_come_first(self):
-        for wants, place in ((((2, 1),), 2), (((-1, 1),), -1), (((0, 1), (1, 1), (7, 1), (9, 1)), 7), (((5, 3), (4, 1)), 5)):
+        refused = [(((2, 1),), 2), (((-1, 1),), -1), (((0, 1), (1, 1), (7, 1), (9, 1)), 7), (((5, 3), (4, 1)), 5)]
+        for wants, place in refused:
             with self.assertRaises(NoPlace) as held:
                 within_rounds(TWO, wants)
             self.assertEqual(held.exception.place, place)

@@ -32,7 +32,8 @@ def drawn(seed, many, told=None):
 
 class Kinds(unittest.TestCase):
     def test_is_step(self):
-        for right in (NEAR, TOLD, (((0,),), None), (((0,),), ((UNIT,),)), (((1,), (0, 1)), ((UNIT,), ((2, 5), (3, 5))))):
+        two = (((1,), (0, 1)), ((UNIT,), ((2, 5), (3, 5))))
+        for right in (NEAR, TOLD, (((0,),), None), (((0,),), ((UNIT,),)), two):
             n = len(right[0])
             check_kind(self, lambda thing: is_step(thing, n), lambda thing: plain.step(thing, n), right)
             for count in (n + 1, n - 1, 10 ** 20):
@@ -58,15 +59,18 @@ class Kinds(unittest.TestCase):
             n = len(right)
             check_kind(self, lambda thing: is_state(thing, n), lambda thing: plain.state(thing, n), right)
             self.assertIs(is_state(right, n + 1), False)
-        for number in ((0, 2), (2, 4), (1, 0), (1, -1), (-1, -1), (1,), (1, 1, 1), [1, 1], 1, (1, "1"), (None, 1), (True, 1)):
+        wrong = [(0, 2), (2, 4), (1, 0), (1, -1), (-1, -1), (1,), (1, 1, 1), [1, 1], 1, (1, "1"), (None, 1), (True, 1)]
+        for number in wrong:
             self.assertIs(is_state((number,), 1), False)
 
     def test_is_table(self):
-        for right in (((UNIT,),), ((HALF, HALF), (NOUGHT, UNIT)), ((THIRD, (1, 6), HALF), (NOUGHT, UNIT, NOUGHT), (THIRD,) * 3)):
+        three = ((THIRD, (1, 6), HALF), (NOUGHT, UNIT, NOUGHT), (THIRD,) * 3)
+        for right in (((UNIT,),), ((HALF, HALF), (NOUGHT, UNIT)), three):
             n = len(right)
             check_kind(self, lambda thing: is_table(thing, n), lambda thing: plain.table(thing, n), right)
             self.assertIs(is_table(right, n + 1), False)
-        for row in ((HALF, THIRD), ((3, 2), (-1, 2)), (UNIT, (0, 2)), (NOUGHT, NOUGHT), (UNIT,), (UNIT, NOUGHT, NOUGHT)):
+        wrong = [(HALF, THIRD), ((3, 2), (-1, 2)), (UNIT, (0, 2)), (NOUGHT, NOUGHT), (UNIT,), (UNIT, NOUGHT, NOUGHT)]
+        for row in wrong:
             self.assertIs(is_table((row, (UNIT, NOUGHT)), 2), False)
 
 
@@ -92,7 +96,8 @@ class Made(unittest.TestCase):
         self.assertEqual(least_share(TOLD), (1, 6))
         self.assertEqual(least_share(even_step(((0,),))), UNIT)
         for step, _ in drawn(2, 60, True):
-            self.assertEqual(plain.worth(least_share(step)), min(plain.worth(share) for row in step[1] for share in row))
+            every = [plain.worth(share) for row in step[1] for share in row]
+            self.assertEqual(plain.worth(least_share(step)), min(every))
 
 
 class Moves(unittest.TestCase):
@@ -154,16 +159,17 @@ class Moves(unittest.TestCase):
 
 class Ranges(unittest.TestCase):
     def bounds(self, step):
-        """Return some d: at which a move just keeps to d, less, and greater."""
+        """Return lists of some d: those that a move keeps to, the first of them just so, and greater ones."""
         if step[1] is None:
             most = Fraction(1, max(len(lot) for lot in step[0]))
         else:
             most = min(plain.worth(share) for row in step[1] for share in row)
-        return most, [most, most / 3, most * Fraction(7, 10), Fraction(1, GREAT)], [most + Fraction(1, 1000), most * 2, Fraction(3)]
+        kept = [most, most / 3, most * Fraction(7, 10), Fraction(1, GREAT)]
+        return kept, [most + Fraction(1, 1000), most * 2, Fraction(3)]
 
     def test_ranges_against_plain_means(self):
         for step, state in drawn(5, 80):
-            _, kept, missed = self.bounds(step)
+            kept, missed = self.bounds(step)
             for d in kept:
                 ranges = move_ranges(step, state, plain.pair_of(d))
                 for place, (least, greatest) in enumerate(ranges):
@@ -194,7 +200,7 @@ class Ranges(unittest.TestCase):
     def test_is_mean_and_shares_for(self):
         rng = random.Random(6)
         for step, state in drawn(6, 80):
-            _, kept, missed = self.bounds(step)
+            kept, missed = self.bounds(step)
             for d in kept:
                 pair = plain.pair_of(d)
                 ranges = [tuple(map(plain.worth, both)) for both in move_ranges(step, state, pair)]

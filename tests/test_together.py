@@ -99,7 +99,8 @@ class Surely(unittest.TestCase):
             self.assertIs(surely_together(own), comes_together_alone(looks))
 
     def test_whose_choices_they_are(self):
-        self.assertEqual([surely_together(own) for own in (WILD, TAME, DUO, TURN, TWO)], [False, True, True, False, False])
+        expected = [(WILD, False), (TAME, True), (DUO, True), (TURN, False), (TWO, False)]
+        self.assertEqual([(own, surely_together(own)) for own, _ in expected], expected)
         self.assertIs(surely_together(one_choice("any", (FIRST,))), True)
 
     def test_what_never_ends_that_there_is_our_paper(self):
@@ -180,7 +181,7 @@ class Papers(unittest.TestCase):
                 continue
             camps, table = paper
             n = places_of(own)
-            numbers = [Fraction(0) if p in camps[0] else Fraction(1) if p in camps[1] else Fraction(1, 2) for p in range(n)]
+            numbers = [Fraction(p in camps[1]) if p in camps[0] + camps[1] else Fraction(1, 2) for p in range(n)]
             k = 0
             for _ in range(30):
                 owner, arrows = own[1][k]
@@ -223,7 +224,8 @@ class Rings(unittest.TestCase):
 
     def test_is_camp_ring_of_right_ones_with_one_flaw(self):
         for own in (WILD, TURN, TWO):
-            check_kind(self, lambda thing: is_camp_ring(own, thing), lambda thing: plain.ring(own, thing), camp_ring(own))
+            ring = camp_ring(own)
+            check_kind(self, lambda thing: is_camp_ring(own, thing), lambda thing: plain.ring(own, thing), ring)
         long = (((0,), (1, 2)), (0, 1) * 3)
         check_kind(self, lambda thing: is_camp_ring(WILD, thing), lambda thing: plain.ring(WILD, thing), long)
 
