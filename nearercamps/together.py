@@ -2,6 +2,7 @@
 
 from nearercamps.camps import is_camps
 from nearercamps.errors import Unfit
+from nearercamps.fates import all_can_die
 from nearercamps.games import are_kill_ranks, is_keeping_table, kill_ranks
 from nearercamps.hunt import Hunt
 from nearercamps.machines import choices, is_row, places_of, round_lengths, row_end
@@ -18,8 +19,7 @@ def begin_camps_kept(machine, ranks):
 
 def surely_together(machine):
     """Return whether some rule of ours brings each run that follows it together."""
-    machine = frozen(machine)
-    return begin_camps_kept(machine, spot_ranks(machine)) == []
+    return all_can_die(frozen(machine))
 
 
 def our_paper(machine):

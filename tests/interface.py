@@ -28,7 +28,24 @@ TOGETHER = """surely_together(machine), our_paper(machine), is_our_paper(machine
 is_their_paper(machine, thing), camp_ring(machine), is_camp_ring(machine, thing), rule_arrow(machine, paper, row),
 rule_span(machine, paper)"""
 
-FILES = {"looks": LOOKS, "steps": STEPS, "machines": MACHINES, "camps": CAMPS, "games": GAMES, "together": TOGETHER}
+WINDOWS = """living(machine, row), is_mix(machine, row), longest_by(machine, camps), longest_life(machine),
+window(machine), slow_row(machine), is_slow_row(machine, thing), life_counts(machine, many),
+spread_left(share, moves, times), shortest_mix(machine)"""
+
+OWNERS = """handed_over(machine, stands), is_enough(machine, stands), needed_sets(machine), fewest_choices(machine),
+always_needed(machine), never_needed(machine), made_needed(machine, stands), needed_paper(machine, stands),
+is_needed_paper(machine, stands, thing), is_struck_enough(machine, strikes), least_strikes(machine)"""
+
+SPARE = """looks_of(machine), further_looks(machine), arrows_of(machine, owner), without_looks(machine, looks),
+with_looks(machine, looks), without_arrows(machine, arrows), needless_looks(machine), spare_looks(machine),
+needless_arrows(machine), helping_looks(machine), harmful_arrows(machine), fewest_looks(machine, most)"""
+
+RUNS = """row_stands(machine, row), row_moves(machine, row), row_looks(machine, row), run_even(machine, row, state),
+run_by(machine, row, state, shares), is_run(machine, row, states, d), ranges_after(machine, row, state, d),
+camp_state(n, camps), camps_on_the_way(machine, row, camps), spreads(machine, row, state)"""
+
+FILES = {"looks": LOOKS, "steps": STEPS, "machines": MACHINES, "camps": CAMPS, "games": GAMES, "together": TOGETHER,
+         "windows": WINDOWS, "owners": OWNERS, "spare": SPARE, "runs": RUNS}
 
 
 def functions_of(name):

@@ -299,3 +299,55 @@ def spread_out(rng, own):
     numbers = {spot: k for k, spot in enumerate([reached[0]] + rng.sample(reached[1:], len(reached) - 1))}
     order = sorted(reached, key=numbers.get)
     return twice, tuple((made[s][0], tuple((step, numbers[to]) for step, to in made[s][1])) for s in order)
+
+
+@lru_cache(maxsize=None)
+def together(own):
+    """Return whether some rule of ours brings all together, by the game about each pair of CAMPS."""
+    game = Game(own)
+    return all((0, some) in game.ranks for some in game.every)
+
+
+def every_choice(own):
+    return [k for k, (_, arrows) in enumerate(own[1]) if len(arrows) > 1]
+
+
+def handed(own, stands):
+    return own[0], tuple(("ours" if k in stands else "any", arrows) for k, (_, arrows) in enumerate(own[1]))
+
+
+def struck(own, gone):
+    """Return the MACHINE without these arrows, None if some stand would have none."""
+    left = [[part for k, part in enumerate(arrows) if (s, k) not in gone] for s, (_, arrows) in enumerate(own[1])]
+    if [] in left:
+        return None
+    reached = {0}
+    for _ in left:
+        reached |= {end for k in reached for _, end in left[k]}
+    number = {k: at for at, k in enumerate(sorted(reached))}
+    return own[0], tuple((own[1][k][0], tuple((step, number[end]) for step, end in left[k])) for k in sorted(reached))
+
+
+def sets_of(things):
+    """Return all sets of things, in order."""
+    return sorted(some for many in range(len(things) + 1) for some in combinations(sorted(things), many))
+
+
+def least_of(sets, is_right):
+    """Return those of sets that are right and have no other right one within them, each tried."""
+    right = [some for some in sets if is_right(some)]
+    return [some for some in right if not any(set(one) < set(some) for one in right)]
+
+
+def changed(own, looks, more):
+    """Return the MACHINE with these looks added, if more, or left out, otherwise; None if a LOT would be ()."""
+    steps = []
+    for at, (lots, shares) in enumerate(own[0]):
+        new = []
+        for place, lot in enumerate(lots):
+            some = {seen for step, own_place, seen in looks if step == at and own_place == place}
+            new.append(tuple(sorted(set(lot) | some if more else set(lot) - some)))
+        if () in new:
+            return None
+        steps.append((tuple(new), shares if tuple(new) == lots else None))
+    return tuple(steps), own[1]

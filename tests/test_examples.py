@@ -5,8 +5,10 @@ import unittest
 
 from tests.support import read_examples, run_example
 
-MODULES = ("errors", "looks", "steps", "machines", "camps", "games", "together")
-SECTIONS = ("section_04.txt", "section_05.txt", "section_07.txt", "section_08.txt", "section_09.txt", "section_10.txt")
+MODULES = ("errors", "looks", "steps", "machines", "camps", "games", "together", "windows", "owners",
+           "spare", "runs")
+SECTIONS = ("section_04.txt", "section_05.txt", "section_07.txt", "section_08.txt", "section_09.txt", "section_10.txt",
+            "section_11.txt", "section_12.txt", "section_13.txt", "section_14.txt")
 
 
 def all_names():
@@ -29,7 +31,7 @@ class Examples(unittest.TestCase):
 
     def test_no_example_is_left_out(self):
         counts = [len(read_examples(section)) for section in SECTIONS]
-        self.assertEqual(counts, [7, 10, 10, 10, 9, 9])
+        self.assertEqual(counts, [7, 10, 10, 10, 9, 9, 8, 10, 7, 11])
 
 
 if __name__ == "__main__":
