@@ -4,6 +4,11 @@ A lot is told by a number here, whose binary digit at p is 1 if place p is in th
 looked at only if they hold all places: all others are within such ones, and can be killed no later.
 """
 
+from nearercamps.falls import fall_ranks
+
+# What has died: a stand and two lots, told by numbers, as all spots are.
+DEAD = (0, 0, 0)
+
 
 def lot_number(lot):
     """Return the number that tells lot."""
@@ -20,14 +25,14 @@ def within_numbers(looks):
 
 
 def ends_by(arrows, tables, spot):
-    """Return the list of the spots to which arrows lead this one, None where its CAMPS die."""
+    """Return the list of the spots to which arrows lead this one."""
     _, low, high = spot
     ends = []
     for step, end in arrows:
         table = tables[step]
         one, other = table[low], table[high]
         if one == 0 or other == 0:
-            ends.append(None)
+            ends.append(DEAD)
         else:
             ends.append((end, min(one, other), max(one, other)))
     return ends
@@ -36,14 +41,16 @@ def ends_by(arrows, tables, spot):
 def ends_met(begins, stands, tables):
     """Return a dict that has, for each spot that is met from begins on, the list of its ends_by."""
     order = list(begins)
-    found = {spot: [] for spot in begins}
+    found = {DEAD: []}
+    for spot in begins:
+        found[spot] = []
     at = 0
     while at < len(order):
         spot = order[at]
         ends = ends_by(stands[spot[0]][1], tables, spot)
         found[spot] = ends
         for end in ends:
-            if end is not None and end not in found:
+            if end not in found:
                 found[end] = []
                 order.append(end)
         at += 1
@@ -57,21 +64,8 @@ def all_can_die(machine):
     full = len(tables[0]) - 1
     begins = [(0, min(lot, full - lot), max(lot, full - lot)) for lot in range(1, full, 2)]
     ends = ends_met(begins, stands, tables)
-    ahead = {spot: [] for spot in ends}
-    missing = {}
-    falling = []
-    for spot in ends:
-        owner, arrows = stands[spot[0]]
-        # At a stand of ours one good arrow is enough, at others all must be good.
-        missing[spot] = 1 if owner == "ours" else len(arrows)
-        for end in ends[spot]:
-            if end is None:
-                falling.append(spot)
-            else:
-                ahead[end].append(spot)
-    while falling != []:
-        spot = falling.pop()
-        missing[spot] -= 1
-        if missing[spot] == 0:
-            falling.extend(ahead[spot])
-    return all([missing[spot] <= 0 for spot in begins])
+    # At a stand of ours one good arrow is enough, at others all must be good.
+    needs = {spot: 1 if stands[spot[0]][0] == "ours" else len(ends[spot]) for spot in ends}
+    needs[DEAD] = 0
+    ranks = fall_ranks(ends, needs)
+    return all([spot in ranks for spot in begins])

@@ -44,8 +44,27 @@ RUNS = """row_stands(machine, row), row_moves(machine, row), row_looks(machine, 
 run_by(machine, row, state, shares), is_run(machine, row, states, d), ranges_after(machine, row, state, d),
 camp_state(n, camps), camps_on_the_way(machine, row, camps), spreads(machine, row, state)"""
 
+STUBBORN = """is_closed_in(machine, lot), closed_in(machine), outside_along(machine, row, lot), holds(machine, lot),
+can_hold(machine, lot), hold_moves(machine, lot), outside_ring(machine, lot), is_outside_ring(machine, lot,
+thing), hold_plan(machine, lot), slip_plan(machine, lot), is_hold_plan(machine, lot, thing),
+is_slip_plan(machine, lot, thing), posted(machine, lot), least_posts(machine)"""
+
+SAY = """hearers_along(machine, row, lot), ever_heard(machine, lot), heard_row(machine, lot), surely_heard(machine,
+lot), heard_moves(machine, lot), unheard_ring(machine, lot), is_unheard_ring(machine, lot, thing),
+can_be_heard(machine, lot), voice_plan(machine, lot), mute_plan(machine, lot), is_voice_plan(machine, lot,
+thing), is_mute_plan(machine, lot, thing), least_voices(machine), silent_places(machine)"""
+
+TOLD = """led_on(looks, pairs), is_kept(machine, camps, row), parted_pairs(machine, stand), meeting_lots(machine),
+parting_paper(machine, pair), is_parting_paper(machine, pair, thing), parting_run(machine, pair, paper, many,
+d)"""
+
+WITHIN = """is_round_within(machine, named, k, row), harms(machine, named, k), least_harming(machine, named),
+within_paper(machine, named, k), is_within_paper(machine, named, k, thing), waited(machine, row, camps),
+is_waiting_paper(machine, named, thing), waiting_row(turns, first, many)"""
+
 FILES = {"looks": LOOKS, "steps": STEPS, "machines": MACHINES, "camps": CAMPS, "games": GAMES, "together": TOGETHER,
-         "windows": WINDOWS, "owners": OWNERS, "spare": SPARE, "runs": RUNS}
+         "windows": WINDOWS, "owners": OWNERS, "spare": SPARE, "runs": RUNS,
+         "stubborn": STUBBORN, "say": SAY, "told": TOLD, "within": WITHIN}
 
 
 def functions_of(name):
