@@ -92,15 +92,17 @@ def meeting_lots(machine):
     every = list(range(places_of(machine)))
     lots = []
     for p in every:
-        lots.append(tuple([q for q in every if p == q or (min(p, q), max(p, q)) not in parted]))
+        lots.append(tuple([q for q in every if (min(p, q), max(p, q)) not in parted]))
     return sorted(set(lots))
 
 
 def parting_paper(machine, pair):
     """Return a triple (camps, turn, row) that parts pair, None if it comes together by told times."""
     machine, pair = untold(machine), frozen(pair)
-    papers = [paper for (_, one), paper in parting_ways(machine).items() if one == pair]
-    return papers[0] if papers != [] else None
+    for (_, parted), paper in parting_ways(machine).items():
+        if parted == pair:
+            return paper
+    return None
 
 
 def looks_of_row(machine, row):
