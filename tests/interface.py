@@ -62,9 +62,25 @@ WITHIN = """is_round_within(machine, named, k, row), harms(machine, named, k), l
 within_paper(machine, named, k), is_within_paper(machine, named, k, thing), waited(machine, row, camps),
 is_waiting_paper(machine, named, thing), waiting_row(turns, first, many)"""
 
+LATE = """reads_itself(machine), spots(late), late_looks(looks, late, ages), ages_of(looks, late),
+late_machine(machine, late), late_harms(machine, late), least_late(machine, place, most), late_paper(machine, late),
+is_late_paper(machine, late, thing)"""
+
+SHARES = """standing_space(machine, stand), kept_sums(machine), stays_kept(machine, row), kept_rows(machine, row),
+is_kept_rows(machine, row, thing), agreed_sum(machine), is_loop(machine, thing), loop_sum(machine, loop),
+two_ends(machine), is_two_ends(machine, thing)"""
+
+PIECES = """is_piece(thing, n), row_piece(steps), choice_piece(looks), piece_looks(piece), plain_looks(piece),
+piece_table(piece), table_of_looks(looks), joined_piece(one, other), either_piece(one, other), joined_table(table,
+behind), either_table(table, beside), pieces_alike(one, other), called(machine, stand, arrow, piece), around(piece,
+looks), surrounding(one, other), is_surrounding(one, other, thing)"""
+
+PLANS = """is_plan(thing), written_out(plan), machine_of(plan), step_names(plan, row), plan_of(machine)"""
+
 FILES = {"looks": LOOKS, "steps": STEPS, "machines": MACHINES, "camps": CAMPS, "games": GAMES, "together": TOGETHER,
          "windows": WINDOWS, "owners": OWNERS, "spare": SPARE, "runs": RUNS,
-         "stubborn": STUBBORN, "say": SAY, "told": TOLD, "within": WITHIN}
+         "stubborn": STUBBORN, "say": SAY, "told": TOLD, "within": WITHIN,
+         "late": LATE, "shares": SHARES, "pieces": PIECES, "plans": PLANS}
 
 
 def functions_of(name):
