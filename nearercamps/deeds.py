@@ -71,35 +71,33 @@ def written(deeds, pieces):
     return found
 
 
-def laid_choice(deed, stand, free, behind, steps):
-    """Return the stands of a choice at stand as laid_out does."""
+def laid_choice(deed, free, behind, steps):
+    """Return the stands of a choice as laid_out does; those within it are from free on."""
     arrows = []
     inner = []
     for branch in deed[1]:
-        # All but the first DEED of the branch stand on their own, from free on.
+        # The first DEED of the branch has the stand of the choice.
         rest = branch[1:]
         arrows.append((steps[branch[0][1]], behind if rest == () else free))
-        inner = inner + laid_out(rest, free, free + 1, behind, steps)
+        inner = inner + laid_out(rest, free, behind, steps)
         free += stands_of(rest, {})
     once = each_once(arrows)
     owner = OWNERS[deed[0]] if len(once) > 1 else "any"
-    return [(stand, owner, tuple(once))] + inner
+    return [(owner, tuple(once))] + inner
 
 
-def laid_out(deeds, stand, free, behind, steps):
-    """Return the list of the stands (stand, owner, arrows) of deeds that are written out.
+def laid_out(deeds, stand, behind, steps):
+    """Return the list of the stands of deeds that are written out, from this stand on.
 
-    The first one is at stand, the others are from free on; behind is where to go on in the end, steps has the places
-    of the STEPS by their names.
+    behind is the stand where to go on in the end, steps has the places of the STEPS by their names.
     """
     found = []
     for k, deed in enumerate(deeds):
-        after = free + stands_of_deed(deed, {}) - 1
+        after = stand + stands_of_deed(deed, {})
         end = behind if k == len(deeds) - 1 else after
         if deed[0] == "step":
-            found.append((stand, "any", ((steps[deed[1]], end),)))
+            found.append(("any", ((steps[deed[1]], end),)))
         else:
-            found = found + laid_choice(deed, stand, free, end, steps)
+            found = found + laid_choice(deed, stand + 1, end, steps)
         stand = after
-        free = after + 1
     return found

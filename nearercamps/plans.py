@@ -75,8 +75,7 @@ def machine_of(plan):
     """Return the MACHINE of plan."""
     _, steps, _, deeds, within = written_out(plan)
     place = {name: k for k, (name, _) in enumerate(steps)}
-    laid = sorted(laid_out(deeds, 0, 1, 0, place))
-    stands = tuple([(owner, arrows) for _, owner, arrows in laid])
+    stands = tuple(laid_out(deeds, 0, 0, place))
     if sum([len(arrows) for _, arrows in stands]) > MOST_ARROWS:
         raise TooMuch()
     machine = (tuple([step for _, step in steps]), stands)

@@ -77,16 +77,34 @@ looks), surrounding(one, other), is_surrounding(one, other, thing)"""
 
 PLANS = """is_plan(thing), written_out(plan), machine_of(plan), step_names(plan, row), plan_of(machine)"""
 
+PLANLINES = """plan_text(plan), plan_by(text)"""
+
+PAPERS = """is_claim(machine, thing), is_so(machine, claim), paper(machine, claim), is_paper_for(machine, claim, thing),
+is_paper_against(machine, claim, thing), verdicts(machine, claims, things), comes_of(machine, claim, claims),
+carries_over(machine, claim, other), first_false(machine, claims)"""
+
+DESK = """desk(text), is_request(thing)"""
+
+BOARD = """machine(), look(step, place, lot), share(step, shares), add_step(step), drop_step(step), own(stand, owner),
+lead(stand, step, end), cut(stand, arrow), insert(stand, arrow, step), mark(), back(mark), undo(), together(), always(),
+changed(mark), looked_at(place), dead_steps()"""
+
 FILES = {"looks": LOOKS, "steps": STEPS, "machines": MACHINES, "camps": CAMPS, "games": GAMES, "together": TOGETHER,
          "windows": WINDOWS, "owners": OWNERS, "spare": SPARE, "runs": RUNS,
          "stubborn": STUBBORN, "say": SAY, "told": TOLD, "within": WITHIN,
-         "late": LATE, "shares": SHARES, "pieces": PIECES, "plans": PLANS}
+         "late": LATE, "shares": SHARES, "pieces": PIECES, "plans": PLANS,
+         "planlines": PLANLINES, "papers": PAPERS, "desk": DESK}
+
+
+def told_in(text):
+    """Return the list of pairs (name, names of arguments) that text lists."""
+    found = []
+    for part in text.replace("\n", " ").split("), "):
+        function, names = part.strip().rstrip(")").split("(")
+        found.append((function, names.split(", ") if names else []))
+    return found
 
 
 def functions_of(name):
     """Return the list of pairs (name, names of arguments) of a file."""
-    found = []
-    for part in FILES[name].replace("\n", " ").split("), "):
-        function, names = part.strip().rstrip(")").split("(")
-        found.append((function, names.split(", ")))
-    return found
+    return told_in(FILES[name])

@@ -5,7 +5,8 @@ import inspect
 import os
 import unittest
 
-from tests.interface import FILES, functions_of
+from nearercamps.board import Board
+from tests.interface import BOARD, FILES, functions_of, told_in
 
 
 class Interface(unittest.TestCase):
@@ -18,6 +19,14 @@ class Interface(unittest.TestCase):
                     self.assertEqual(list(inspect.signature(function).parameters), names)
                     self.assertEqual(os.path.basename(function.__code__.co_filename), name + ".py")
                     self.assertEqual(function.__name__, function_name)
+
+    def test_the_board_has_its_methods_itself(self):
+        self.assertEqual(Board.__module__, "nearercamps.board")
+        self.assertEqual(list(inspect.signature(Board).parameters), ["machine"])
+        for method_name, names in told_in(BOARD):
+            method = vars(Board)[method_name]
+            self.assertEqual(list(inspect.signature(method).parameters), ["self"] + names)
+            self.assertEqual(os.path.basename(method.__code__.co_filename), "board.py")
 
     def test_arguments_have_no_defaults_and_may_be_named_or_not(self):
         for name in FILES:
