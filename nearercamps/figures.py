@@ -40,9 +40,6 @@ def number_text(number):
 
 
 def quotient_text(number):
-    """Return what tells a FRACTION, /1 left out."""
+    """Return what tells a FRACTION from 0, /1 left out."""
     top, bottom = number
-    sign = "-" if top < 0 else ""
-    if bottom == 1:
-        return sign + number_text(abs(top))
-    return f"{sign}{number_text(abs(top))}/{number_text(bottom)}"
+    return number_text(top) if bottom == 1 else f"{number_text(top)}/{number_text(bottom)}"

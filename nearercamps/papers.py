@@ -29,7 +29,7 @@ def is_set_of_choices(machine, thing):
 
 def is_claim(machine, thing):
     """Return whether thing is a CLAIM for machine."""
-    if not is_filled_tuple(thing) or not isinstance(thing[0], str) or len(thing) > 2:
+    if not is_filled_tuple(thing) or len(thing) > 2:
         return False
     if len(thing) == 1:
         if thing[0] == "agreed":
@@ -261,10 +261,10 @@ def comes_of(machine, claim, claims):
     every = fit_claims(machine, claims)
     if own in every or comes_of_enough(machine, own, enough_sets(machine, every)):
         return True
-    told = [one[1] for one in every if one[0] == own[0] and len(one) == 2]
+    alike = [one for one in every if one[0] == own[0]]
     if own[0] == "window":
-        return any([many <= own[1] for many in told])
-    return own[0] in ("holds", "heard") and any([is_part(lot, own[1]) for lot in told])
+        return any([many < own[1] for _, many in alike])
+    return own[0] in ("holds", "heard") and any([is_part(lot, own[1]) for _, lot in alike])
 
 
 def carries_over(machine, claim, other):

@@ -2,6 +2,7 @@
 
 import random
 import unittest
+from fractions import Fraction
 
 from nearercamps import desk
 from nearercamps.errors import BadLine
@@ -20,6 +21,15 @@ PLAN = """plan
    2 times (back)
  again"""
 WORDS = {"drop_step": "drop", "looked_at": "lookers", "dead_steps": "dead"}
+
+
+def number_of(digits):
+    """Return the number that digits tell, however many there are."""
+    number = 0
+    for at in range(0, len(digits), 1000):
+        part = digits[at:at + 1000]
+        number = number * 10 ** len(part) + int(part)
+    return number
 
 
 def answers(*lines):
@@ -222,6 +232,11 @@ class Replies(unittest.TestCase):
         top, bottom_text = lines[2].split(" ")[0].split("/")
         # (1/b) (1/b) + ((b - 1)/b) (1/3)
         self.assertEqual(int(top) * 3 * bottom ** 2, int(bottom_text) * (3 + (bottom - 1) * bottom))
+        held = [Fraction(1), Fraction(0)]
+        for _ in range(300):
+            held = [(held[0] + (bottom - 1) * held[1]) / bottom, (held[0] + 2 * held[1]) / 3]
+        self.assertEqual([tuple(map(number_of, part.split("/"))) for part in lines[-1].split(" ")],
+                         [(number.numerator, number.denominator) for number in held])
 
     def test_replies_in_words(self):
         told = answers(PLAN, "mark", "mark", "dead", "step 0 | 1 | 0 2", "dead", "steps", "stands", "own 0 any", "changed 0",

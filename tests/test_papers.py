@@ -125,6 +125,8 @@ class Papers(unittest.TestCase):
             self.assertIs(papers.is_paper_against(TWO, ("needed", (0, 1)), thing), True)
             self.assertIs(papers.is_paper_against(TWO, ("needed", (0, 1)), (1 - stand,) + thing[1:]), False)
             self.assertIs(papers.is_paper_against(TWO, ("needed", (stand,)), thing), False)
+        # True is no stand.
+        self.assertIs(papers.is_paper_against(TWO, ("needed", (0, 1)), (True, thing[1])), False)
         theirs = papers.paper(TWO, ("enough", ()))
         self.assertEqual(papers.paper(TWO, ("needed", ())), theirs)
         self.assertIs(papers.is_paper_against(TWO, ("needed", ()), theirs), True)
