@@ -5,13 +5,13 @@ from nearercamps.errors import CanNot, NoPlace, Unfit
 from nearercamps.machines import is_row, places_of, row_end
 from nearercamps.owners import handed_over
 from nearercamps.plain import frozen, is_number_below, is_tuple_of
-from nearercamps.quotients import NOUGHT, UNIT, divided, total_of, weighed
+from nearercamps.quotients import UNIT, divided, total_of, weighed
 from nearercamps.runs import evened
-from nearercamps.spaces import crossing_basis, times, with_row
+from nearercamps.spaces import crossing_basis, less_row, times, with_row
 from nearercamps.standing import Standing
-from nearercamps.steps import are_rows, is_state
+from nearercamps.steps import are_rows, is_state, table_of
 from nearercamps.together import surely_together
-from nearercamps.ways import inner_order, steps_along
+from nearercamps.ways import steps_along
 
 MOST_ARROWS = 800
 MOST_BOTTOM = 24
@@ -28,10 +28,12 @@ def standing_space(machine, stand):
 def kept_basis(standing):
     """Return the basis of all kept rows."""
     crossing = []
-    for stand in range(len(standing.stands)):
-        for change, _, _, _ in standing.changes(stand):
+    homes = standing.first_home()
+    # Numbers are small near home, and often it is seen there already that no row is kept.
+    for stand in reversed(standing.order):
+        standing.add_home(homes, stand)
+        for change in standing.changes(stand, homes):
             crossing = with_row(crossing, change)
-        # No row is kept any more, whatever comes.
         if len(crossing) == standing.n:
             return []
     return crossing_basis(crossing, standing.n)
@@ -52,23 +54,29 @@ def stays_kept(machine, row):
     return is_in_kept(kept_basis(Standing(frozen(machine))), frozen(row))
 
 
+def rows_home(standing, row):
+    """Return the tuple of the rows for all stands whose sums are those by row behind the way home by first arrows."""
+    homes = standing.tables_home()
+    return tuple([row_by(row, homes[stand]) for stand in range(len(standing.stands))])
+
+
 def kept_rows(machine, row):
     """Return rows for all stands by which the sum is the same all the way, row itself for the beginning."""
     standing = Standing(frozen(machine))
     row = frozen(row)
     if not is_in_kept(kept_basis(standing), row):
         raise CanNot()
-    return tuple([row_by(row, standing.homes[stand]) for stand in range(len(standing.stands))])
+    return rows_home(standing, row)
 
 
 def stays_by_moves(standing, rows, stand):
     """Return whether the sums by rows stay the same in each move from stand."""
-    stays = []
-    for state, _, _ in standing.states[stand]:
+    for state in standing.bases[stand]:
+        before = weighed(rows[stand], state)
         for arrow, (_, end) in enumerate(standing.stands[stand][1]):
-            before = weighed(rows[stand], state)
-            stays.append(all([weighed(rows[end], going) == before for going, _ in standing.moves(stand, state, arrow)]))
-    return all(stays)
+            if not all([weighed(rows[end], going) == before for going in standing.moved(stand, arrow, state)]):
+                return False
+    return True
 
 
 def is_kept_rows(machine, row, thing):
@@ -164,24 +172,35 @@ def loop_sum(machine, loop):
     return row
 
 
-def unlike_loop(standing, weights):
-    """Return a LOOP by whose round the sum by weights does not stay; there is one, weights being no kept row."""
-    # A stand comes behind those from which its states come: up to there the sum stays, so this move is what counts.
-    for stand in [0] + inner_order(standing.stands):
-        for change, own, arrow, rows in standing.changes(stand):
-            if weighed(weights, change) != NOUGHT:
-                _, row, ahead = own
-                _, end = standing.stands[stand][1][arrow]
-                ring = row + (arrow,) + standing.home_row(end)
-                return ((), (), ring, ahead + (rows,) + standing.home_shares(end))
+def bending_move(standing, rows):
+    """Return a stand, an arrow, shares, and a row that is felt there: how much the sum by rows changes in this move.
+
+    In all moves ahead of that stand the sum stays the same. Some move changes it, rows being none of a kept one.
+    """
+    for stand in standing.order:
+        for arrow, (step, end) in enumerate(standing.stands[stand][1]):
+            for shares in standing.tried[step]:
+                behind = row_by(rows[end], table_of((standing.steps[step][0], shares)))
+                change = less_row(behind, rows[stand])
+                if standing.is_felt(stand, change):
+                    return stand, arrow, shares, change
     return None
+
+
+def unlike_loop(standing, weights):
+    """Return a LOOP by whose round the sum by weights, which is no kept row, does not stay."""
+    stand, arrow, shares, change = bending_move(standing, rows_home(standing, weights))
+    row, ahead = standing.way_felt(stand, change)
+    _, end = standing.stands[stand][1][arrow]
+    ring = row + (arrow,) + standing.row_home(end)
+    return ((), (), ring, ahead + (shares,) + standing.shares_home(end))
 
 
 def first_loop(standing):
     """Return the LOOP that goes by first arrows and, where none are told, equal shares."""
     step, end = standing.stands[0][1][0]
     begin = (evened(standing.steps[step])[1],)
-    return ((), (), (0,) + standing.home_row(end), begin + standing.home_shares(end))
+    return ((), (), (0,) + standing.row_home(end), begin + standing.shares_home(end))
 
 
 def two_ends(machine):

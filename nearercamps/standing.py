@@ -1,10 +1,11 @@
-"""What can stand at the stands of a MACHINE, and ways home from there.
+"""What can stand at the stands of a MACHINE, and what moves make of it as it is seen from home, the beginning.
 
 Of untold shares so few are looked at here that sums of multiples of them, 1 in all, are all others.
 """
 
 from nearercamps.blends import row_by
-from nearercamps.quotients import lowest, weighed
+from nearercamps.machines import each_once
+from nearercamps.quotients import NOUGHT, lowest, weighed
 from nearercamps.runs import evened
 from nearercamps.spaces import less_row, unit_rows, with_row
 from nearercamps.steps import even_step, mixed, table_of
@@ -34,21 +35,10 @@ def seen_by(table, state):
     return tuple([weighed(row, state) for row in table])
 
 
-def tables_home(steps, stands):
-    """Return a dict of the TABLE of the way home from each stand, by first arrows, told shares or equal ones."""
-    homes = {0: tuple(unit_rows(len(steps[0][0])))}
-    for stand in reversed(inner_order(stands)):
-        step, end = stands[stand][1][0]
-        table = table_of(evened(steps[step]))
-        homes[stand] = tuple([row_by(row, table) for row in homes[end]])
-    return homes
-
-
 class Standing:
-    """States that can stand at each stand of a MACHINE, as many as it takes to make all others of them.
+    """The bases of what can stand at each stand of a MACHINE.
 
-    states has a list for each stand of triples (state, row, shares): by shares row leads a state with 1 at one place
-    and 0 elsewhere to that state. homes has the tables_home.
+    order has all stands, the beginning first, each behind all others from which arrows lead to it.
     """
 
     def __init__(self, machine):
@@ -56,52 +46,51 @@ class Standing:
         self.steps = steps
         self.stands = stands
         self.n = len(steps[0][0])
+        self.order = [0] + inner_order(stands)
         self.tried = [shares_tried(step) for step in steps]
-        self.states = [[] for _ in stands]
         self.bases = [[] for _ in stands]
-        self.fill()
-        self.homes = tables_home(steps, stands)
+        self.bases[0] = unit_rows(self.n)
+        for stand in self.order:
+            for arrow in range(len(stands[stand][1])):
+                self.lead_on(stand, arrow)
 
-    def fill(self):
-        """Find the states of all stands, from the beginning on."""
-        order = []
-        for unit in unit_rows(self.n):
-            self.take(0, (unit, (), ()), order)
-        at = 0
-        while at < len(order):
-            stand, found = order[at]
-            for arrow, (_, end) in enumerate(self.stands[stand][1]):
-                if len(self.bases[end]) < self.n:
-                    self.lead_on(stand, found, arrow, order)
-            at += 1
-
-    def lead_on(self, stand, found, arrow, order):
-        """Take what an arrow of stand leads one of its states to."""
-        _, row, shares = found
+    def lead_on(self, stand, arrow):
+        """Put what an arrow leads the states of stand to into the basis of its end."""
         _, end = self.stands[stand][1][arrow]
-        for going, rows in self.moves(stand, found[0], arrow):
-            self.take(end, (going, row + (arrow,), shares + (rows,)), order)
+        states = list(self.bases[stand])
+        for state in states:
+            # Where all can stand there is no need to look on; so it is at the beginning.
+            if len(self.bases[end]) < self.n:
+                for going in self.moved(stand, arrow, state):
+                    self.bases[end] = with_row(self.bases[end], going)
 
-    def take(self, stand, found, order):
-        """Keep a state of stand with its way, and put it behind order, if it is not made of those that are there."""
-        wider = with_row(self.bases[stand], found[0])
-        if len(wider) > len(self.bases[stand]):
-            self.bases[stand] = wider
-            self.states[stand].append(found)
-            order.append((stand, found))
-
-    def moves(self, stand, state, arrow):
-        """Return the list of the pairs of a state to which an arrow of stand leads one, and shares by which it does."""
+    def moved(self, stand, arrow, state):
+        """Return the list of the STATES to which an arrow of stand leads one, by the shares that are tried."""
         step, _ = self.stands[stand][1][arrow]
-        looks, _ = self.steps[step]
-        found = {}
-        for shares in self.tried[step]:
-            going = mixed(looks, shares, state)
-            if going not in found:
-                found[going] = shares
-        return list(found.items())
+        return each_once([mixed(self.steps[step][0], shares, state) for shares in self.tried[step]])
 
-    def home_row(self, stand):
+    def first_home(self):
+        """Return a dict of the TABLE of the way home from the beginning: none is needed."""
+        return {0: tuple(unit_rows(self.n))}
+
+    def add_home(self, homes, stand):
+        """Put the TABLE of the way home from stand, by first arrows, told or equal shares, into homes.
+
+        homes has those of the stands behind it.
+        """
+        if stand not in homes:
+            step, end = self.stands[stand][1][0]
+            table = table_of(evened(self.steps[step]))
+            homes[stand] = tuple([row_by(row, table) for row in homes[end]])
+
+    def tables_home(self):
+        """Return a dict of the TABLE of the way home from each stand."""
+        homes = self.first_home()
+        for stand in reversed(self.order):
+            self.add_home(homes, stand)
+        return homes
+
+    def row_home(self, stand):
         """Return the row of first arrows from stand to the next coming to the beginning, () from there."""
         row = ()
         while stand != 0:
@@ -109,21 +98,44 @@ class Standing:
             row = row + (0,)
         return row
 
-    def home_shares(self, stand):
-        """Return the shares of the moves of home_row, told or equal ones."""
-        moves = steps_along(self.stands, stand, self.home_row(stand))
+    def shares_home(self, stand):
+        """Return the shares of the moves of row_home, told or equal ones."""
+        moves = steps_along(self.stands, stand, self.row_home(stand))
         return tuple([evened(self.steps[step])[1] for step in moves])
 
-    def changes(self, stand):
-        """Return the list of what moves from stand change of a state, as they can be seen at home.
+    def changes(self, stand, homes):
+        """Return the list of what moves from stand change of its states, as it is seen at home: rows of n.
 
-        Each is a quadruple of a row of n, 0 in all sums that stay, of what is in states, an arrow, and its shares.
+        A sum by a row stays the same in these moves exactly if the sum of each of them by it is 0.
         """
         found = []
-        for own in self.states[stand]:
-            seen = seen_by(self.homes[stand], own[0])
+        for state in self.bases[stand]:
+            seen = seen_by(homes[stand], state)
             for arrow, (_, end) in enumerate(self.stands[stand][1]):
-                for going, shares in self.moves(stand, own[0], arrow):
-                    found.append((less_row(seen_by(self.homes[end], going), seen), own, arrow, shares))
+                for going in self.moved(stand, arrow, state):
+                    found.append(less_row(seen_by(homes[end], going), seen))
         return found
 
+    def is_felt(self, stand, row):
+        """Return whether the sum by row is not 0 for something that can stand at stand."""
+        return any([weighed(row, state) != NOUGHT for state in self.bases[stand]])
+
+    def felt_ahead(self, stand, row):
+        """Return a stand ahead, its arrow to stand, shares, and the row that is felt there by what row is felt here."""
+        for ahead in self.order:
+            for arrow, (step, end) in enumerate(self.stands[ahead][1]):
+                for shares in self.tried[step] if end == stand else []:
+                    behind = row_by(row, table_of((self.steps[step][0], shares)))
+                    if self.is_felt(ahead, behind):
+                        return ahead, arrow, shares, behind
+        return None
+
+    def way_felt(self, stand, row):
+        """Return a row from the beginning to stand, and shares, by which a state comes there for which row is felt."""
+        arrows = ()
+        every = ()
+        while stand != 0:
+            stand, arrow, shares, row = self.felt_ahead(stand, row)
+            arrows = (arrow,) + arrows
+            every = (shares,) + every
+        return arrows, every

@@ -109,7 +109,9 @@ class PlainDesk:
     def show(self, value):
         if type(value) is tuple:
             return " ".join(map(str, value)) or "-"
-        return {None: "done", True: "yes", False: "no"}[value] if value in (None,) or type(value) is bool else str(value)
+        if value is None or type(value) is bool:
+            return {None: "done", True: "yes", False: "no"}[value]
+        return str(value)
 
     def steps(self):
         return "\n".join(lots(looks) + (" = " + rows(shares) if shares else "")

@@ -43,7 +43,8 @@ class Drawn(unittest.TestCase):
                 self.assertIs(is_machine(board.machine(), plainly.n()), True)
                 met.setdefault(word, set()).add(right[1] if right[0] == "error" else "done")
         both = {"lead": {NoPlace, Unfit, CanNot}, "cut": {NoPlace, CanNot}, "insert": {NoPlace}, "undo": {NothingDone},
-                "look": {NoPlace, Unfit}, "share": {NoPlace, Unfit}, "add_step": {Unfit}, "drop_step": {NoPlace, CanNot},
+                "look": {NoPlace, Unfit}, "share": {NoPlace, Unfit}, "add_step": {Unfit},
+                "drop_step": {NoPlace, CanNot},
                 "own": {NoPlace, Unfit}, "back": {NoPlace}, "changed": {NoPlace}, "looked_at": {NoPlace}, "mark": set(),
                 "together": set(), "always": set(), "dead_steps": set()}
         self.assertEqual(met, {word: kinds | {"done"} for word, kinds in both.items()})
@@ -116,7 +117,8 @@ class Edges(unittest.TestCase):
                              (lambda: board.share(-1, 7), -1), (lambda: board.drop_step(2), 2),
                              (lambda: board.own(2, "nobody"), 2), (lambda: board.lead(2, 8, 9), 2),
                              (lambda: board.lead(0, 8, 9), 8), (lambda: board.lead(0, 0, 9), 9),
-                             (lambda: board.cut(5, 7), 5), (lambda: board.cut(1, 2), 2), (lambda: board.insert(3, 9, 9), 3),
+                             (lambda: board.cut(5, 7), 5), (lambda: board.cut(1, 2), 2),
+                             (lambda: board.insert(3, 9, 9), 3),
                              (lambda: board.insert(0, 4, 9), 4), (lambda: board.insert(0, 1, 9), 9),
                              (lambda: board.back(0), 0), (lambda: board.changed(-1), -1),
                              (lambda: board.looked_at(3), 3), (lambda: board.insert(1, -1, 0), -1)):

@@ -73,8 +73,10 @@ def draw_request(rng, plainly):
         row = row + [9] if rng.random() < 0.1 else row
         return f"run {state}\n " + (" ".join(map(str, row)) or "-")
     if kind < 0.45:
-        return rng.choice(["look 0 0 0 0", "look 0 0 1 x", "share 0 1", "share 0 1 | 1 |", "step 0", "step 0 | a", "run 1",
-                           "run 1  2\n 0", "run 1\n 0 ", "plan", "plan\n places a", "share 0 1/0", "look 7 0 x", "mark me"])
+        return rng.choice(["look 0 0 0 0", "look 0 0 1 x", "share 0 1", "share 0 1 | 1 |", "step 0", "step 0 | a",
+                           "run 1",
+                           "run 1  2\n 0", "run 1\n 0 ", "plan", "plan\n places a", "share 0 1/0", "look 7 0 x",
+                           "mark me"])
     word, told = draw_deed(rng, plainly)
     return line_of(rng, word, told)
 
@@ -146,19 +148,24 @@ class Requests(unittest.TestCase):
         self.assertIs(desk.is_request("life"), True)
 
     def test_by_shape_alone(self):
-        for text, right in (("look 0 1 2", True), ("look 0 1 ", False), ("look 0 1  ", True), ("look 0 1 x y | z", True),
+        for text, right in (("look 0 1 2", True), ("look 0 1 ", False), ("look 0 1  ", True),
+                            ("look 0 1 x y | z", True),
                             ("look 0 1", False), ("look  0 1 2", False), ("look 01 1 2", False), ("look 0 0 \t", True),
                             ("look 123456789 0 0", True), ("look 1234567890 0 0", False), ("share 0 free", True),
-                            ("share free", False), ("share 0  free", True), ("step  ", True), ("step ", False), ("step", False),
+                            ("share free", False), ("share 0  free", True), ("step  ", True), ("step ", False),
+                            ("step", False),
                             ("step x", True), ("steps", True), ("steps ", False), ("steps 1", False), ("drop 0", True),
-                            ("drop 00", False), ("drop -1", False), ("drop 0 1", False), ("drop", False), ("own 3 ours", True),
+                            ("drop 00", False), ("drop -1", False), ("drop 0 1", False), ("drop", False),
+                            ("own 3 ours", True),
                             ("own 3 any", True), ("own 3 mine", False), ("own 3 ours ", False), ("lead 0 0 0", True),
                             ("lead 0 0", False), ("cut 0 1", True), ("cut 0 1 2", False), ("insert 0 0 10", True),
                             ("back 1", True), ("back", False), ("undo", True), ("undo now", False), ("mark", True),
                             ("together", True), ("always", True), ("changed 0", True), ("changed", False),
-                            ("lookers 1", True), ("dead", True), ("stands", True), ("life", True), ("run 1 2\n -", True),
+                            ("lookers 1", True), ("dead", True), ("stands", True), ("life", True),
+                            ("run 1 2\n -", True),
                             ("run 1 2", False), ("run \n -", False), ("run  \n -", True), ("run 1\n 0\n 1", True),
-                            ("run 1\n ", True), ("run 1\n0", False), ("run x\n y", True), ("plan\n ", True), ("plan", False),
+                            ("run 1\n ", True), ("run 1\n0", False), ("run x\n y", True), ("plan\n ", True),
+                            ("plan", False),
                             ("plan \n places", False), ("plan\n x\n\n y", False), ("plan\n x\n  y", True),
                             ("dead\n x", False), ("drop \u0663", False), ("", False), (" ", False), ("drop\t0", False),
                             ("drop 0\r", False), ("look 0 1 \u00e9", True)):
@@ -171,7 +178,8 @@ class Replies(unittest.TestCase):
         self.assertEqual(desk.desk(""), [])
 
     def test_bad_lines(self):
-        for text, line in (("\n", 1), (" ", 1), (" life", 1), ("life\n", 2), ("life\n\nlife", 2), ("life\nplan\nlife", 2),
+        for text, line in (("\n", 1), (" ", 1), (" life", 1), ("life\n", 2), ("life\n\nlife", 2),
+                           ("life\nplan\nlife", 2),
                            ("life\nrun 0\n 0\nlife\n 0", 4), ("nothing", 1), ("life\nplan\n a\n b\nrun 1", 5),
                            ("undo\nundo\nlive", 3), ("steps\n dead", 1), (" x\nnothing", 1)):
             with self.assertRaises(BadLine) as caught:
@@ -183,7 +191,8 @@ class Replies(unittest.TestCase):
         first = answers(*told)
         long = "plan\n places a\n step s: all stand\n plan\n   61 times (s)\n again"
         for line in ("look 0 0 0 0", "look 0 0 x", "look 2 0 0", "look 0 3 0", "share 0 1", "share 0 1 | 1 | 1/2",
-                     "share 0 1 | 1 | x", "step 0 | 1", "drop 0", "drop 7", "own 9 any", "lead 0 0 2", "lead 1 0 1", "cut 3 0",
+                     "share 0 1 | 1 | x", "step 0 | 1", "drop 0", "drop 7", "own 9 any", "lead 0 0 2", "lead 1 0 1",
+                     "cut 3 0",
                      "cut 0 2", "insert 0 2 0", "back 0", "plan\n places", long, "undo", "run 1\n 0", "changed 0"):
             again = answers(*(told + [line, "steps", "stands", "undo", "mark"]))
             self.assertEqual(again[:3], first)
@@ -193,19 +202,25 @@ class Replies(unittest.TestCase):
     def test_errors_in_their_order(self):
         for line, name in (("look 9 9 x", "BadLine"), ("look 9 9 2 1", "NoPlace"), ("look 0 0 2 1", "Unfit"),
                            ("look 0 0 1  2", "BadLine"), ("look 0 0 01", "BadLine"), ("look 0 0 0 ", "BadLine"),
-                           ("look 0 0  0", "BadLine"), ("look 0 0 1234567890", "BadLine"), ("look 0 0 123456789", "Unfit"),
+                           ("look 0 0  0", "BadLine"), ("look 0 0 1234567890", "BadLine"),
+                           ("look 0 0 123456789", "Unfit"),
                            ("share 9 free ", "BadLine"), ("share 9 free", "NoPlace"), ("share 9 1 | 1", "NoPlace"),
-                           ("share 0 1 | 1", "Unfit"), ("share 0 1 | 1 | 1 | 1", "Unfit"), ("share 0 1 | 1|1", "BadLine"),
-                           ("share 0 0 | 1 | 1", "Unfit"), ("share 0 1/0 | 1 | 1", "BadLine"), ("share 0 1 1 | 1 | 1", "Unfit"),
+                           ("share 0 1 | 1", "Unfit"), ("share 0 1 | 1 | 1 | 1", "Unfit"),
+                           ("share 0 1 | 1|1", "BadLine"),
+                           ("share 0 0 | 1 | 1", "Unfit"), ("share 0 1/0 | 1 | 1", "BadLine"),
+                           ("share 0 1 1 | 1 | 1", "Unfit"),
                            ("share 0 -1 | 1 | 1", "BadLine"), ("step 0 | 1", "Unfit"), ("step 0 | 1 | 2 | 3", "Unfit"),
                            ("step 0 | 1 | 3", "Unfit"), ("step 0 | 1 | ", "BadLine"), ("step 0 | 1 | x", "BadLine"),
                            ("run 1 2\n x", "BadLine"), ("run 1 2\n 0\n 0", "BadLine"), ("run 1 2\n ", "BadLine"),
                            ("run 1 2\n 9", "Unfit"), ("run 1 2 3\n 9", "NoPlace"), ("run 1 2 3 4\n -", "Unfit"),
                            ("run 1 2 x\n -", "BadLine"), ("run 1 2 1/0\n -", "BadLine"), ("run 1 2 3\n - ", "BadLine"),
-                           ("run 1 2 3\n 0  0", "BadLine"), ("run 1 2 3 \n -", "BadLine"), ("run 1 2 3\n --", "BadLine"),
+                           ("run 1 2 3\n 0  0", "BadLine"), ("run 1 2 3 \n -", "BadLine"),
+                           ("run 1 2 3\n --", "BadLine"),
                            ("run 1 2 3\n -\n -", "BadLine"), ("plan\n ", "BadLine"), ("plan\n places a", "BadLine"),
-                           ("lead 9 9 9", "NoPlace"), ("lead 1 0 1", "CanNot"), ("lead 1 0 2", "Unfit"), ("cut 1 0", "CanNot"),
-                           ("drop 1", "CanNot"), ("changed 0", "NoPlace"), ("lookers 3", "NoPlace"), ("undo", "NothingDone"),
+                           ("lead 9 9 9", "NoPlace"), ("lead 1 0 1", "CanNot"), ("lead 1 0 2", "Unfit"),
+                           ("cut 1 0", "CanNot"),
+                           ("drop 1", "CanNot"), ("changed 0", "NoPlace"), ("lookers 3", "NoPlace"),
+                           ("undo", "NothingDone"),
                            ("plan\n places a\n step s: all stand\n plan\n   61 times (s)\n again", "TooMuch"),
                            ("plan\n places a\n step s: all stand\n step t: all stand\n within 1 t\n plan\n   s\n again",
                             "CanNot")):
@@ -239,11 +254,14 @@ class Replies(unittest.TestCase):
                          [(number.numerator, number.denominator) for number in held])
 
     def test_replies_in_words(self):
-        told = answers(PLAN, "mark", "mark", "dead", "step 0 | 1 | 0 2", "dead", "steps", "stands", "own 0 any", "changed 0",
+        told = answers(PLAN, "mark", "mark", "dead", "step 0 | 1 | 0 2", "dead", "steps", "stands", "own 0 any",
+                       "changed 0",
                        "together", "always", "life", "insert 3 0 2", "lead 4 0 0", "cut 4 1", "lookers 0", "lookers 1",
-                       "back 1", "stands", "undo", "run 1/2 0 3\n 0 0 0", "look 0 1 1 2", "share 0 1 | 1/2 1/2 | 1", "steps")
+                       "back 1", "stands", "undo", "run 1/2 0 3\n 0 0 0", "look 0 1 1 2", "share 0 1 | 1/2 1/2 | 1",
+                       "steps")
         steps = "0 | 0 | 1\n1 | 2 | 2\n0 | 1 | 0 2"
-        self.assertEqual(told, ["done", "0", "1", "-", "2", "2", steps, "ours 0-2 1-1\nany 0-2\nany 1-3\nany 1-0", "done",
+        self.assertEqual(told, ["done", "0", "1", "-", "2", "2", steps, "ours 0-2 1-1\nany 0-2\nany 1-3\nany 1-0",
+                                "done",
                                 "-", "yes", "yes", "3", "4", "1", "done", "0 2", "0 1", "done",
                                 "ours 0-2 1-1\nany 0-2\nany 1-3\nany 1-0", "done", "1/2 0 3\n1/2 1/2 0\n1/2 0 0\n0 0 0",
                                 "done", "done", "0 | 1 2 | 1 = 1 | 1/2 1/2 | 1\n1 | 2 | 2\n0 | 1 | 0 2"])

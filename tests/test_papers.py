@@ -43,13 +43,15 @@ class Claims(unittest.TestCase):
                              (("enough", (0,)), True), (("enough", (1,)), False), (("enough", (0, 0)), False),
                              (("enough", (-1,)), False), (("enough", [0]), False), (("needed", ()), True),
                              (("holds", (0,)), False), (("holds", (0, 1, 2)), True), (("heard", ()), False),
-                             (("heard", (0, 3)), False), (("always", ()), False), (("together", 1), False), (("window",), False),
+                             (("heard", (0, 3)), False), (("always", ()), False), (("together", 1), False),
+                             (("window",), False),
                              (("nothing",), False), ("always", False), ((), False)):
             self.assertIs(papers.is_claim(WILD, claim), right, claim)
         self.assertIs(papers.is_claim(TURN, ("enough", (0,))), False)
         self.assertIs(papers.is_claim(EVEN, ("agreed",)), True)
         # Of a STEP on no arrow nothing hangs: (0,) is closed all the same.
-        self.assertIs(papers.is_claim(((HEAR, (((1,), (1,), (1,)), None)), (("any", ((0, 0),)),)), ("holds", (0,))), True)
+        self.assertIs(papers.is_claim(((HEAR, (((1,), (1,), (1,)), None)), (("any", ((0, 0),)),)), ("holds", (0,))),
+                      True)
 
     def test_so_or_not(self):
         met = set()
@@ -104,7 +106,8 @@ class Papers(unittest.TestCase):
 
     def test_things_of_every_kind(self):
         for own, claim in ((TAME, ("together",)), (WILD, ("together",)), (WILD, ("always",)), (LOOSE, ("window", 1)),
-                           (TAME, ("window", 3)), (WILD, ("enough", (0,))), (WILD, ("enough", ())), (WILD, ("needed", (0,))),
+                           (TAME, ("window", 3)), (WILD, ("enough", (0,))), (WILD, ("enough", ())),
+                           (WILD, ("needed", (0,))),
                            (WILD, ("needed", ())), (POST, ("holds", (0, 2))), (POST, ("heard", (1,))),
                            (EVEN, ("agreed",)), (LOOSE, ("agreed",)), (TAME, ("heard", (0,)))):
             thing = papers.paper(own, claim)
@@ -229,7 +232,8 @@ class Carries(unittest.TestCase):
     def others(self, rng, own):
         """Return MACHINES that are like own but for something."""
         n = told.places(own)
-        wide = tuple((tuple(tuple(sorted(set(lot) | {rng.randrange(n)})) for lot in looks), None) for looks, _ in own[0])
+        wide = tuple((tuple(tuple(sorted(set(lot) | {rng.randrange(n)})) for lot in looks), None)
+                     for looks, _ in own[0])
         narrow = tuple((tuple(lot[:1] for lot in looks), None) for looks, _ in own[0])
         owners = tuple(("any" if owner == "ours" else "ours", arrows) for owner, arrows in own[1])
         more = own[0] + own[0][:1]
@@ -245,7 +249,8 @@ class Carries(unittest.TestCase):
         for own in SOME:
             for other in self.others(rng, own):
                 like = told.places(own) == told.places(other) and len(own[0]) == len(other[0]) and own[1] == other[1]
-                like = like and all(set(a) <= set(b) for one, two in zip(own[0], other[0]) for a, b in zip(one[0], two[0]))
+                like = like and all(set(a) <= set(b) for one, two in zip(own[0], other[0])
+                                    for a, b in zip(one[0], two[0]))
                 for claim in EVERY[own]:
                     right = like and claim[0] in ("together", "always", "window", "enough", "heard")
                     self.assertIs(papers.carries_over(own, claim, other), right)
@@ -261,7 +266,8 @@ class Refused(unittest.TestCase):
             for claim in (("agreed",) if own == WILD else ("agree",), ("window", 0), ("enough", (7,)), ("heard", (9,)),
                           ("holds", ()), (), (None,), ("needed", (1, 0))):
                 for call in (lambda: papers.is_so(own, claim), lambda: papers.paper(own, claim),
-                             lambda: papers.is_paper_for(own, claim, None), lambda: papers.is_paper_against(own, claim, 1),
+                             lambda: papers.is_paper_for(own, claim, None), lambda: papers.is_paper_against(own, claim,
+                                                                                                            1),
                              lambda: papers.verdicts(own, (("always",), claim), (1,)),
                              lambda: papers.comes_of(own, claim, (claim,)),
                              lambda: papers.comes_of(own, ("always",), (("always",), claim)),

@@ -95,12 +95,12 @@ class Texts(unittest.TestCase):
                 self.assertEqual(plain_lines.read(text), own)
 
     def test_texts_are_written_as_stated(self):
-        a, b = (((0,), (0, 2), (2,)), None), (((0, 1), (1,), (0, 1, 2)), (((1, 3), (2, 3)), ((1, 1),), ((1, 6),) * 2
-                                                                           + ((2, 3),)))
+        a = (((0,), (0, 2), (2,)), None)
+        b = (((0, 1), (1,), (0, 1, 2)), (((1, 3), (2, 3)), ((1, 1),), ((1, 6), (1, 6), (2, 3))))
         still, told = (((0,), (1,), (2,)), None), (((0,), (1,), (2,)), (((1, 1),),) * 3)
         steps = (("a", a), ("b", b), ("still", still), ("told", told))
-        deeds = (("step", "a"), ("times", 3, (("step", "b"), ("call", "q"))), ("ours", ((("step", "a"),), (("call", "p"),
-                                                                                                  ("step", "b")))))
+        deeds = (("step", "a"), ("times", 3, (("step", "b"), ("call", "q"))),
+                 ("ours", ((("step", "a"),), (("call", "p"), ("step", "b")))))
         own = (("x", "y", "z"), steps, (("p", (("step", "a"),)), ("q", (("call", "p"), ("step", "told")))), deeds,
                (("b", 4), ("told", 123456789)))
         self.assertIs(plain_plans.plan(own), True)
@@ -174,7 +174,8 @@ class Edges(unittest.TestCase):
         self.assertEqual(bad_line("\n" + TEXT), 1)
 
     def test_places(self):
-        for line, right in (("places a b c d", True), ("places c b a", True), ("places a b b", False), ("places", False),
+        for line, right in (("places a b c d", True), ("places c b a", True), ("places a b b", False),
+                            ("places", False),
                             ("places ", False), ("places  a b c", False), ("places a b c ", False),
                             ("places a b from", False), ("places a b c9", False), ("Places a b c", False),
                             ("places a\tb c", False), (" places a b c", False)):
@@ -197,10 +198,12 @@ class Edges(unittest.TestCase):
 
     def test_shares(self):
         forty, more = "1" + "0" * 39, "1" + "0" * 40
-        for part, right in (("1 a", True), ("1/1 a", True), ("2/2 a", True), ("1/2 a 1/2 b", True), ("1/2 b 1/2 a", True),
+        for part, right in (("1 a", True), ("1/1 a", True), ("2/2 a", True), ("1/2 a 1/2 b", True),
+                            ("1/2 b 1/2 a", True),
                             ("1/3 a 1/3 b", False), ("1/2 a 1/2 a", False), ("1/2 a b", False), ("a 1/2 b", False),
                             ("0 a 1 b", False), ("0/2 a 1 b", False), ("1/0 a", False), ("1/2 a 2/4 b", True),
-                            ("003/6 a 0001/2 b", True), ("00 a 1 b", False), ("-1 a 2 b", False), ("0.5 a 1/2 b", False),
+                            ("003/6 a 0001/2 b", True), ("00 a 1 b", False), ("-1 a 2 b", False),
+                            ("0.5 a 1/2 b", False),
                             (f"{forty}/{forty} a", True), (f"{more}/{more} a", False), (f"{'0' * 39}1 a", True),
                             (f"{'0' * 40}1 a", False), ("1/ a", False), ("/1 a", False), ("1/2/2 a", False),
                             ("1/2 a 1/2", False), ("1 /1 a", False), ("\u00b2/2 a", False), ("1/2  a 1/2 b", False)):
@@ -226,7 +229,8 @@ class Edges(unittest.TestCase):
     def test_pieces(self):
         for line, right in (("piece p: forth", True), ("piece p:", False), ("piece p: ", False), ("piece p: p", False),
                             ("piece p: q", False), ("piece forth: mix", False), ("piece mix: mix", False),
-                            ("piece plan: mix", False), ("piece p: ours (forth | mix)", True), ("piece p forth", False)):
+                            ("piece plan: mix", False), ("piece p: ours (forth | mix)", True),
+                            ("piece p forth", False)):
             self.check_line(4, line, right)
         self.check_line(5, "piece p: forth", False)
         self.check_line(5, "piece q: p 3 times (p)", True)
@@ -248,7 +252,8 @@ class Edges(unittest.TestCase):
     def test_deeds(self):
         for line, right in (("  forth", True), ("  forth mix p", True), (" forth", False), ("forth", False),
                             ("   forth", False), ("  forth ", False), ("  forth  mix", False), ("  ", False),
-                            ("  none", False), ("  a", False), ("  1 times (forth)", True), ("  0 times (forth)", False),
+                            ("  none", False), ("  a", False), ("  1 times (forth)", True),
+                            ("  0 times (forth)", False),
                             ("  999999999 times (forth)", True), ("  1000000000 times (forth)", False),
                             ("  01 times (forth)", False), ("  2 times forth", False), ("  2 times(forth)", False),
                             ("  2 times ( forth)", False), ("  2 times (forth )", False), ("  2 times ()", False),

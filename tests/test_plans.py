@@ -88,7 +88,8 @@ class Kinds(unittest.TestCase):
         self.assertIs(plans.is_plan(plan((("step", "p"),), (("p", (A,)),))), False)
 
     def test_times(self):
-        for many, right in ((1, True), (9, True), (10 ** 40, True), (0, False), (-1, False), (True, False), ("2", False)):
+        for many, right in ((1, True), (9, True), (10 ** 40, True), (0, False), (-1, False), (True, False),
+                            ("2", False)):
             self.assertIs(plans.is_plan(plan((("times", many, (A,)),))), right)
         self.assertIs(plans.is_plan(plan((("times", 2, ()),))), False)
         self.assertIs(plans.is_plan(plan((("times", 2),))), False)
@@ -98,7 +99,8 @@ class Kinds(unittest.TestCase):
         for branch, right in (((A,), True), ((A, choice), True), ((choice,), False), ((("times", 2, (A,)),), True),
                               ((("times", 2, (choice,)),), False), ((("times", 1, (A, choice)),), True), ((), False),
                               ((("call", "p"),), True), ((("call", "q"),), False), ((("call", "r"),), True),
-                              ((("times", 3, (("call", "q"),)),), False), ((("times", 3, (("call", "r"), choice)),), True)):
+                              ((("times", 3, (("call", "q"),)),), False), ((("times", 3, (("call", "r"), choice)),),
+                                                                           True)):
             own = plan((("anybody", ((A,), branch)),),
                        (("p", (A, choice)), ("q", (choice, A)), ("r", (("times", 2, (("call", "p"),)),))))
             self.assertIs(plans.is_plan(own), right, branch)

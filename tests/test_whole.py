@@ -4,8 +4,8 @@ import random
 import unittest
 from fractions import Fraction
 
-from nearercamps import camps, errors, games, late, machines, owners, papers, pieces, planlines, plans, runs, say, shares
-from nearercamps import spare, steps, stubborn, together, told, windows, within
+from nearercamps import camps, errors, games, late, machines, owners, papers, pieces, planlines, plans, runs, say
+from nearercamps import shares, spare, steps, stubborn, together, told, windows, within
 from nearercamps.board import Board
 from nearercamps.desk import desk
 from tests import plain_claims
@@ -161,7 +161,8 @@ class InEveryRun(unittest.TestCase):
     def test_late_where_each_reads_itself(self):
         met = set()
         for own in SOME:
-            bare = tuple((tuple(tuple(sorted(set(lot) | {p})) for p, lot in enumerate(looks)), None) for looks, _ in own[0])
+            bare = tuple((tuple(tuple(sorted(set(lot) | {p})) for p, lot in enumerate(looks)), None)
+                         for looks, _ in own[0])
             wide = (bare, own[1])
             self.assertIs(late.reads_itself(wide), True)
             try:
@@ -321,7 +322,8 @@ class Judged(unittest.TestCase):
             life = windows.longest_life(free(own))
             yes = {True: "yes", False: "no"}
             self.assertEqual(replies, ["done", yes[together.surely_together(own)],
-                                       yes[together.surely_together(free(own))], "for ever" if life is None else str(life)])
+                                       yes[together.surely_together(free(own))],
+                                       "for ever" if life is None else str(life)])
             many += 1
         self.assertGreater(many, 40)
 
